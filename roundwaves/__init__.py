@@ -1,0 +1,1 @@
+"""roundwaves: roundings one behind the other."""
