@@ -1,6 +1,6 @@
 """Fractions: tuples (top, bottom) in least terms, with a bottom above 0."""
 
-from math import gcd
+from math import gcd, lcm
 
 
 def is_integer(value):
@@ -40,3 +40,36 @@ def minus(one, other):
 def times(one, other):
     """The product of two fractions."""
     return reduced(one[0] * other[0], one[1] * other[1])
+
+
+def inverse(fraction):
+    """The fraction by which this one, unlike 0, gives 1."""
+    top, bottom = fraction
+    return (bottom, top) if top > 0 else (-bottom, -top)
+
+
+def size(fraction):
+    """The absolute value of the fraction."""
+    return (abs(fraction[0]), fraction[1])
+
+
+def is_less(one, other):
+    """Whether the first fraction is less than the other one."""
+    return one[0] * other[1] < other[0] * one[1]
+
+
+def least_multiple(one, other):
+    """The least fraction above 0 that is a whole multiple of both fractions, which are above 0."""
+    return reduced(lcm(one[0], other[0]), gcd(one[1], other[1]))
+
+
+def simplest_between(low, high):
+    """The simplest fraction above low and below high, for 0 <= low < high; high may be (1, 0), above all numbers."""
+    whole = low[0] // low[1]
+    if (whole + 1) * high[1] < high[0]:
+        return (whole + 1, 1)
+    # All of them are whole + 1 / y for a y of this kind, and the simplest one comes from the simplest y.
+    above = (high[1], high[0] - whole * high[1])
+    below = (low[1], low[0] - whole * low[1])
+    top, bottom = simplest_between(above, below)
+    return (whole * top + bottom, top)

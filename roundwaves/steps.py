@@ -42,33 +42,28 @@ def step_value(step, number):
         return plus(number, amount)
     if name == "times":
         return times(number, amount)
+    multiple = times((whole_count(step, number[0] * amount[1], number[1] * amount[0]), 1), amount)
     if name == "rest":
-        return minus(number, times((count_below(number, amount), 1), amount))
-    return times((multiple_count(step, number), 1), amount)
+        return minus(number, multiple)
+    return multiple
 
 
-def multiple_count(step, number):
-    """The integer k for which the rounding step gives k times its fraction at the number."""
-    low = count_below(number, step[1])
-    if step[0] == "down":
-        return low
-    beyond = minus(number, times((low, 1), step[1]))
+def whole_count(step, top, bottom):
+    """The integer k of the multiple that the step takes at top / bottom of its fraction, for a bottom above 0."""
+    low = top // bottom
+    left = top - low * bottom
     if step[0] == "up":
-        return low if beyond[0] == 0 else low + 1
-    return nearest_count(low, beyond, step[1], step[2])
+        return low if left == 0 else low + 1
+    if step[0] == "near":
+        return nearest_count(low, 2 * left - bottom, step[2])
+    return low
 
 
-def count_below(number, unit):
-    """The greatest integer k for which k times the unit is not greater than the number."""
-    return (number[0] * unit[1]) // (number[1] * unit[0])
-
-
-def nearest_count(low, beyond, unit, tie):
-    """Which of low and low + 1 is meant, for a number that lies by beyond above low times the unit."""
-    more = minus(plus(beyond, beyond), unit)[0]
-    if more == 0:
+def nearest_count(low, beyond, tie):
+    """Which of low and low + 1 is nearer, by how far the number lies beyond the middle between them."""
+    if beyond == 0:
         return tied_count(low, tie)
-    return low if more < 0 else low + 1
+    return low if beyond < 0 else low + 1
 
 
 def tied_count(low, tie):

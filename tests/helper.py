@@ -182,3 +182,115 @@ BAD_NUMBERS = NO_FRACTIONS + DEEPEST + [
     (10 ** 31, 1), (1, 10 ** 31), (10 ** 5000, 1), (-10 ** 5000, 1), (1, 10 ** 5000), (1, -10 ** 30),
     ("down", (1, 1)), (("down", (1, 1)),), "1/2", [1, 2],
 ]
+
+
+def beside_step_value(step, y, lean):
+    """What the step makes of a number that lies beside y by lean times something endlessly small: a pair likewise."""
+    amount = Fraction(*step[1])
+    if step[0] == "add":
+        return (y + amount, lean)
+    if step[0] == "times":
+        return (y * amount, lean * amount)
+    parts = y / amount
+    if step[0] == "up":
+        k = -floor(-parts) if lean <= 0 or parts.denominator > 1 else int(parts) + 1
+    elif step[0] == "near":
+        k = floor(parts + Fraction(1, 2))
+        if (parts - Fraction(1, 2)).denominator == 1:
+            if lean < 0:
+                k -= 1
+            elif lean == 0:
+                k = int(plain_step_value(step, y) / amount)
+    else:
+        k = floor(parts) if lean >= 0 or parts.denominator > 1 else int(parts) - 1
+    return (y - k * amount, lean) if step[0] == "rest" else (k * amount, 0)
+
+
+def plain_beside(chain, x, lean):
+    """What the values come to at x from the side that lean tells, and the slope there if lean is 1."""
+    told = (x, lean)
+    for step in chain:
+        told = beside_step_value(step, *told)
+    return told
+
+
+def plain_limits(chain, x):
+    """What the values come to at the Fraction x from below, the value at x, and what they come to from above."""
+    return tuple(plain_beside(chain, x, lean)[0] for lean in (-1, 0, 1))
+
+
+def plain_places(chain, low, high):
+    """The numbers from low on and below high at which the chain is not continuous, ascending."""
+    places = [low]
+    for many, step in enumerate(chain):
+        if step[0] in ("add", "times"):
+            continue
+        m = Fraction(*step[1])
+        middle = m / 2 if step[0] == "near" else 0
+        found = set()
+        for start, end in zip(places, places[1:] + [high]):
+            y, slope = plain_beside(chain[:many], start, 1)
+            if slope == 0:
+                continue
+            first, last = sorted([(y - middle) / m, (y + slope * (end - start) - middle) / m])
+            for k in range(floor(first), floor(last) + 2):
+                x = start + (k * m + middle - y) / slope
+                if start < x < end:
+                    found.add(x)
+        places = sorted(found.union(places))
+    return [x for x in places if len(set(plain_limits(chain, x))) > 1]
+
+
+def told_at(form, x):
+    """What the form tells of the Fraction x, as 2.4 words it: the value, and the a behind x."""
+    if len(form) == 2:
+        return (Fraction(*form[0]) * x + Fraction(*form[1]), Fraction(*form[1]))
+    slope, period, rise = (Fraction(*part) for part in form[:3])
+    turn = floor(x / period)
+    inside = x - turn * period
+    ahead = [row for row in form[3] if Fraction(*row[0]) <= inside]
+    if not ahead:
+        # The stretch behind the last place of the period ahead goes on.
+        turn -= 1
+        inside += period
+    place, at, a = (Fraction(*part) for part in (ahead or form[3])[-1])
+    line = a + turn * (rise - slope * period)
+    return (at + turn * rise if place == inside else slope * x + line, line)
+
+
+def plain_gaps(chain, other, high):
+    """From 0 to high: (start, end, difference at start, difference behind it, difference ahead of the end)."""
+    places = set(plain_places(chain, Fraction(0), high) + plain_places(other, Fraction(0), high))
+    starts = sorted(places.union([Fraction(0)]))
+    gaps = []
+    for start, end in zip(starts, starts[1:] + [high]):
+        one, two = [(plain_limits(each, start)[1], plain_beside(each, start, 1)) for each in (chain, other)]
+        behind = one[1][0] - two[1][0]
+        ahead = behind + (one[1][1] - two[1][1]) * (end - start)
+        gaps.append((start, end, one[0] - two[0], behind, ahead))
+    return gaps
+
+
+def plain_share(chain, other, high):
+    """The share of the numbers from 0 to high at which the values are unlike."""
+    gaps = plain_gaps(chain, other, high)
+    return sum([end - start for start, end, _, behind, ahead in gaps if (behind, ahead) != (0, 0)], Fraction(0)) / high
+
+
+def plain_greatest(chain, other, high):
+    """The greatest difference from 0 to high, and whether it is reached."""
+    found = []
+    for _, _, at, behind, ahead in plain_gaps(chain, other, high):
+        found += [(abs(at), True), (abs(behind), behind == ahead), (abs(ahead), behind == ahead)]
+    return max(found)
+
+
+def plain_parting(chain, other, high, most):
+    """The simplest fraction from 0 on and below high, with a bottom of at most most, at which the values are unlike."""
+    for bottom in range(1, most + 1):
+        top = 0
+        while Fraction(top, bottom) < high:
+            if gcd(top, bottom) == 1 and plain_value(chain, (top, bottom)) != plain_value(other, (top, bottom)):
+                return (top, bottom)
+            top += 1
+    return None

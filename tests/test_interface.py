@@ -13,6 +13,25 @@ FUNCTIONS = {
     ("chains", "value"): ["chain", "number"],
     ("texts", "format_chain"): ["chain"],
     ("texts", "parse_chain"): ["text"],
+    ("forms", "form"): ["chain"],
+    ("forms", "count_jumps"): ["chain"],
+    ("forms", "rises"): ["chain"],
+    ("forms", "keeps"): ["chain"],
+    ("likeness", "same"): ["chain", "other"],
+    ("likeness", "parting"): ["chain", "other"],
+    ("likeness", "unlike_share"): ["chain", "other"],
+    ("likeness", "greatest_gap"): ["chain", "other"],
+    ("likeness", "needless"): ["chain"],
+    ("likeness", "exchangeable"): ["chain"],
+    ("likeness", "joined"): ["chain", "other"],
+    ("likeness", "left_out"): ["chain", "at"],
+    ("backs", "sources"): ["chain", "number"],
+    ("backs", "is_given"): ["chain", "number"],
+}
+
+DESK_METHODS = {
+    "__init__": ["chain"], "put": ["at", "step"], "take": ["at"], "undo": [], "redo": [], "chain": [],
+    "__len__": [], "__eq__": ["other"],
 }
 
 # No clock, no random source, no files, no network: none of these gives any of them.
@@ -45,6 +64,18 @@ class InterfaceTest(unittest.TestCase):
                 self.assertEqual([one.name for one in told], parameters)
                 self.assertTrue(all(one.default is one.empty for one in told))
                 self.assertTrue(all(one.kind in (one.POSITIONAL_ONLY, one.POSITIONAL_OR_KEYWORD) for one in told))
+
+    def test_methods_are_defined_in_the_class_itself(self):
+        classes = [node for node in tree_of(PACKAGE / "desks.py").body if isinstance(node, ast.ClassDef)]
+        self.assertEqual([node.name for node in classes], ["Desk"])
+        defined = [node.name for node in classes[0].body if isinstance(node, ast.FunctionDef)]
+        desk_class = importlib.import_module("roundwaves.desks").Desk
+        for name, parameters in DESK_METHODS.items():
+            with self.subTest(name=name):
+                self.assertEqual(defined.count(name), 1)
+                told = list(inspect.signature(vars(desk_class)[name]).parameters.values())
+                self.assertEqual([one.name for one in told[1:]], parameters)
+                self.assertTrue(all(one.default is one.empty for one in told))
 
     def test_init_defines_no_names(self):
         body = tree_of(PACKAGE / "__init__.py").body
