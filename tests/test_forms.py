@@ -381,6 +381,19 @@ class NotTooManyTest(unittest.TestCase):
         self.assertEqual(count_jumps(parse_chain("near 1/4 even; times 1/4; times 1/4; rest 4")), 256)
         self.assertEqual(count_jumps(parse_chain("near 1/4 even; times 1/4; times 1/4; near 4 even")), 2)
 
+    def test_chains_with_most_places(self):
+        # The document lets these raise TooMany; their forms are worked out all the same.
+        for text, many in [
+            ("near 9/10 odd; times 9/10; times 9/10; near 10/3 even", None),
+            ("near 1/10 even; times 1/10; times 1/10; near 10 odd", 2),
+            ("near 1/10 even; times 1/10; times 1/10; rest 10", 10000),
+            ("rest 10; times 10; times 10; near 1/10 even", 10001),
+            ("rest 10; times 10; times 10; rest 1/10", 1),
+        ]:
+            told = self.answer(parse_chain(text))
+            if many is not None:
+                self.assertEqual(len(told[3]), many, text)
+
 
 class ArgumentsTest(unittest.TestCase):
     def test_what_is_no_chain(self):
